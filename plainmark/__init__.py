@@ -1,0 +1,1 @@
+"""Plainmark: plain texts with marks."""
