@@ -1,11 +1,11 @@
 """HTML: the kinds of its blocks, and raw HTML in a text."""
 
-from plainmark.columns import WHITE, is_blank
+from plainmark.columns import is_blank
+from plainmark.places import behind_all, behind_first, behind_gap, behind_sign
 
 LETTERS = "abcdefghijklmnopqrstuvwxyzABCDEFGHIJKLMNOPQRSTUVWXYZ"
 NAME_SIGNS = "abcdefghijklmnopqrstuvwxyzABCDEFGHIJKLMNOPQRSTUVWXYZ0123456789-"
 KEY_SIGNS = "abcdefghijklmnopqrstuvwxyzABCDEFGHIJKLMNOPQRSTUVWXYZ0123456789_.:-"
-GAP_SIGNS = " \t\n"
 NO_BARE_SIGNS = " \t\n\"'=<>`"
 
 RAW_NAMES = ("script", "pre", "style", "textarea")
@@ -165,36 +165,6 @@ def name_at(text, place):
     if not is_letter(text, place):
         return None
     return behind_all(NAME_SIGNS, text, place)
-
-
-def behind_gap(text, place):
-    """The place behind the gap at a place, the place itself if none is there."""
-    end = behind_all(GAP_SIGNS, text, place)
-    if text.count("\n", place, end) > 1:
-        return place
-    return end
-
-
-def behind_all(signs, text, place):
-    """The place behind as many of some signs as stand at a place."""
-    while place < len(text) and text[place] in signs:
-        place += 1
-    return place
-
-
-def behind_first(words, text, place):
-    """The place behind the first such words from a place on, or None."""
-    found = text.find(words, place)
-    if found < 0:
-        return None
-    return found + len(words)
-
-
-def behind_sign(sign, text, place):
-    """The place behind a sign if it stands at a place, or None."""
-    if text.startswith(sign, place):
-        return place + 1
-    return None
 
 
 def is_letter(text, place):

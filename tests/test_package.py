@@ -14,6 +14,9 @@ INTERFACE = {
     "columns": {"lines_of": ["text"], "whole": ["line"], "taken": ["rest", "many"],
                 "indent": ["rest"], "told": ["rest"]},
     "tags": {"html_kind": ["line"], "html_ends": ["kind", "line"], "tag_at": ["text", "place"]},
+    "references": {"reference_at": ["text", "place"], "decoded": ["text"]},
+    "links": {"normalised": ["text"]},
+    "definitions": {"definition_at": ["text", "place"], "definitions": ["blocks"]},
 }
 
 # L17: words that stand in no file, and names that nothing has.
