@@ -3,6 +3,7 @@
 from plainmark.columns import WHITE
 from plainmark.links import destination_at, label_at, normalised, title_at
 from plainmark.places import behind_all, behind_gap, behind_sign
+from plainmark.rows import rows_in_block
 
 
 def definition_at(text, place):
@@ -61,8 +62,4 @@ def definitions(blocks):
 
 def blocks_in(block):
     """The list of the blocks right in a block, those in its items for a list."""
-    if block[0] == "quote":
-        return list(block[1])
-    if block[0] == "list":
-        return [one for item in block[4] for one in item]
-    return []
+    return [one for row in rows_in_block(block) for one in row]

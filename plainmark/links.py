@@ -1,7 +1,7 @@
 """What links and definitions are made of: labels, destinations and titles."""
 
 from plainmark.errors import NoLabel
-from plainmark.places import INLINE_WHITE, first_plain
+from plainmark.places import INLINE_WHITE, behind_gap, first_plain
 from plainmark.references import decoded
 
 LONGEST_LABEL = 999
@@ -25,6 +25,14 @@ def is_label_text(thing):
     return isinstance(thing, str) and label_at("[" + thing + "]", 0) == (len(thing) + 2, thing)
 
 
+def is_label(thing):
+    """Whether any object is what some label's text is normalised to."""
+    if not isinstance(thing, str) or " ".join(thing.lower().split()) != thing:
+        return False
+    # With a backslash at its end it is no label's text, but that of one with a blank behind it.
+    return is_label_text(thing) or is_label_text(thing + " ")
+
+
 def label_at(text, place):
     """A tuple (place behind, label's text) for the label at a place, or None."""
     if not text.startswith("[", place):
@@ -36,6 +44,32 @@ def label_at(text, place):
     if words.strip(INLINE_WHITE) == "":
         return None
     return (end + 1, words)
+
+
+def target_at(text, place):
+    """A tuple (place behind, destination, title) for a target in round brackets, or None."""
+    if not text.startswith("(", place):
+        return None
+    end = behind_gap(text, place + 1)
+    destination, title = "", None
+    target = destination_at(text, end)
+    if target is not None:
+        behind, destination = target
+        end = behind_gap(text, behind)
+        if end > behind:
+            end, title = title_or_none(text, end)
+    if not text.startswith(")", end):
+        return None
+    return (end + 1, destination, title)
+
+
+def title_or_none(text, place):
+    """A tuple (place behind, title) for a title and a gap, (place, None) if there is no title."""
+    found = title_at(text, place)
+    if found is None:
+        return (place, None)
+    end, title = found
+    return (behind_gap(text, end), title)
 
 
 def destination_at(text, place):

@@ -1,6 +1,10 @@
 """Going on in a text: places behind, or of, what stands from a place on."""
 
 INLINE_WHITE = " \t\n"
+ALLOWED = (
+    "\t\n !\"#$&'()*+,-./0123456789:;<=>?@"
+    "ABCDEFGHIJKLMNOPQRSTUVWXYZ[\\]^_`abcdefghijklmnopqrstuvwxyz{|}~"
+)
 PUNCTUATION = "!\"#$&'()*+,-./:;<=>?@[\\]^_{|}~`"
 
 
@@ -49,3 +53,14 @@ def first_plain(signs, text, place):
             place += 1
         place += 1
     return place
+
+
+def strings_in(text):
+    """A dict from lengths to the places of the strings of backquotes in a text."""
+    strings = {}
+    place = text.find("`")
+    while place >= 0:
+        end = behind_all("`", text, place)
+        strings.setdefault(end - place, []).append(place)
+        place = text.find("`", end)
+    return strings

@@ -1,6 +1,7 @@
 """The rules of the interface, and those of the language that a test can see."""
 
 import ast
+import builtins
 import pathlib
 import re
 import unittest
@@ -17,7 +18,19 @@ INTERFACE = {
     "references": {"reference_at": ["text", "place"], "decoded": ["text"]},
     "links": {"normalised": ["text"]},
     "definitions": {"definition_at": ["text", "place"], "definitions": ["blocks"]},
+    "blocks": {"outline": ["text"], "spans": ["text"], "state": ["text"], "next_state": ["ahead", "line"],
+               "Reader": []},
+    "inlines": {"inlines": ["content", "known"]},
+    "reading": {"read": ["text"]},
+    "trees": {"is_tree": ["thing"]},
+    "pages": {"page": ["tree"], "escaped": ["text"], "words": ["row"]},
+    "writing": {"written": ["tree"], "trimmed": ["text"]},
+    "edits": {"edited": ["text", "edit"], "back": ["text", "edit"], "least_edit": ["text", "other"],
+              "reread": ["text", "edit"], "stays": ["text", "edit"], "changed_labels": ["text", "edit"],
+              "felt": ["text", "edit"]},
 }
+METHODS = {("blocks", "Reader"): {"feed": ["self", "line"], "state": ["self"], "blocks": ["self"]}}
+DEFAULTS = {"inlines": [None]}
 
 # L17: words that stand in no file, and names that nothing has.
 BARRED_WORDS = re.compile(
@@ -49,12 +62,21 @@ class Interface(unittest.TestCase):
             for name, wanted in names.items():
                 node = defined[name]
                 if isinstance(node, ast.ClassDef):
-                    methods = {one.name: one for one in node.body
-                               if isinstance(one, ast.FunctionDef)}
+                    methods = self.methods(node)
+                    for method, arguments in METHODS.get((module, name), {}).items():
+                        self.takes(methods[method], arguments)
                     wanted, node = ["self"] + wanted, methods["__init__"]
-                self.assertEqual([one.arg for one in node.args.args], wanted, name)
-                self.assertFalse(node.args.posonlyargs or node.args.kwonlyargs, name)
-                self.assertFalse(node.args.vararg or node.args.kwarg or node.args.defaults, name)
+                self.takes(node, wanted)
+
+    def methods(self, node):
+        return {one.name: one for one in node.body if isinstance(one, ast.FunctionDef)}
+
+    def takes(self, node, wanted):
+        defaults = [one.value for one in node.args.defaults]
+        self.assertEqual([one.arg for one in node.args.args], wanted, node.name)
+        self.assertFalse(node.args.posonlyargs or node.args.kwonlyargs, node.name)
+        self.assertFalse(node.args.vararg or node.args.kwarg, node.name)
+        self.assertEqual(defaults, DEFAULTS.get(node.name, []), node.name)
 
 
 class Language(unittest.TestCase):
@@ -80,6 +102,7 @@ class Language(unittest.TestCase):
                 if isinstance(node.value, str):
                     self.assertNotIn("%", node.value, path)
                     self.assertFalse(node.value.endswith(("._", ".__")), path)
+                    self.assertFalse(node.value.startswith("__") and node.value.endswith("__"), path)
 
     def test_words_and_names(self):
         for path in FILES:
@@ -113,13 +136,62 @@ class Language(unittest.TestCase):
                     self.assertIsInstance(node.value, ast.Constant, path)
                 if isinstance(node, ast.Assign):
                     self.assertEqual([len(node.targets), type(node.targets[0])], [1, ast.Name])
-                    ast.literal_eval(node.value)
+                    self.is_plain(node.value, bound)
                     bound.append(node.targets[0].id)
                 if isinstance(node, (ast.FunctionDef, ast.ClassDef)):
                     bound.append(node.name)
                 if isinstance(node, ast.ImportFrom):
                     bound.extend(one.name for one in node.names)
             self.assertEqual(len(bound), len(set(bound)), path)
+
+    def is_plain(self, node, bound):
+        """A plain value, or a dict from plain values to functions defined above."""
+        if isinstance(node, ast.Dict) and any(isinstance(one, ast.Name) for one in node.values):
+            for key, value in zip(node.keys, node.values):
+                ast.literal_eval(key)
+                self.assertIn(value.id, bound)
+        else:
+            ast.literal_eval(node)
+
+    def test_no_file_imports_from_itself_through_others(self):
+        imports = {path.stem: {node.module.split(".")[-1] for node in nodes(path, ast.ImportFrom)} for path in FILES}
+        for name in imports:
+            ahead, met = set(imports[name]), set()
+            while ahead:
+                one = ahead.pop()
+                met.add(one)
+                ahead |= imports[one] - met
+            self.assertNotIn(name, met)
+
+    def test_names_within_functions(self):
+        """L15: no name of a builtin, of a class or of an import of the file."""
+        for path in FILES:
+            top = ast.parse(source(path)).body
+            # The last value that was shown is no name of the language.
+            barred = set(dir(builtins)) - {"_"}
+            for node in top:
+                if isinstance(node, ast.ImportFrom):
+                    barred |= {one.name for one in node.names}
+                if isinstance(node, ast.ClassDef):
+                    barred.add(node.name)
+            for node in nodes(path, ast.FunctionDef, ast.Lambda):
+                names = {one.arg for one in node.args.args}
+                names |= {one.id for one in ast.walk(node) if isinstance(one, ast.Name) and isinstance(one.ctx, ast.Store)}
+                self.assertEqual(names & barred, set(), path)
+
+    def test_imports_are_used(self):
+        for path in FILES:
+            used = {node.id for node in nodes(path, ast.Name)}
+            for node in nodes(path, ast.ImportFrom):
+                self.assertEqual({one.name for one in node.names} - used, set(), path)
+
+    def test_no_name_is_a_method_and_an_attribute(self):
+        methods, attributes = set(), set()
+        for path in FILES:
+            for node in nodes(path, ast.ClassDef):
+                methods |= {one.name for one in node.body if isinstance(one, ast.FunctionDef)}
+            attributes |= {one.attr for one in nodes(path, ast.Attribute) if isinstance(one.ctx, ast.Store)}
+        self.assertEqual(methods & attributes, set())
 
 
 if __name__ == "__main__":
