@@ -50,11 +50,10 @@ def reread(text, edit):
 
 def stays(text, edit):
     """A tuple of the numbers of blocks that stay, ahead and behind."""
-    begin, old_end, _, meets = reread(text, edit)
+    begin, old_end = reread(text, edit)[:2]
     ahead = reading_of(lines_of(text)[:begin]).number_ended()
-    if not meets:
-        return (ahead, 0)
-    behind = [place for place, _, first, _ in spans(text) if len(place) == 1 and first >= old_end]
+    # If the states do not meet, the old end is that of the text: so nothing begins there.
+    behind = [span for span in spans(text) if len(span[0]) == 1 and span[2] >= old_end]
     return (ahead, len(behind))
 
 
@@ -62,7 +61,8 @@ def changed_labels(text, edit):
     """The sorted list of the labels that do not mean the same in both texts."""
     other = edited(text, edit)
     old, new = definitions(outline(text)), definitions(outline(other))
-    return sorted([label for label in {**old, **new} if old.get(label) != new.get(label)])
+    labels = {**old, **new}
+    return sorted([label for label in labels if old.get(label) != new.get(label)])
 
 
 def felt(text, edit):

@@ -3,8 +3,8 @@
 from plainmark.places import PUNCTUATION, strings_in
 from plainmark.rows import folded, rows_in_inline
 
-# Written as references: a backslash ahead of a backquote would end no code, but
-# begin none either, and the others are white.
+# No backslash helps here: a backquote may end a code in spite of it, and the
+# others are white.
 BY_REFERENCE = "\t\n`"
 
 
@@ -98,8 +98,7 @@ def text_of_inline(inline, rows):
         return inline[1]
     if word == "code":
         return code_between(inline[1])
-    _, destination, title, _ = inline
-    link = "[" + rows[0] + "](" + target_text(destination, title) + ")"
+    link = "[" + rows[0] + "](" + target_text(inline[1], inline[2]) + ")"
     if word == "image":
         return "!" + link
     return link

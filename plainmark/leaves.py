@@ -1,9 +1,9 @@
 """Leaves: paragraphs, headings, breaks, codes and HTML, as they are read.
 
 For each of them, is_open tells whether further lines may belong to it,
-entry() is what a state tells of it then, is_given(rest, line) takes one more
-line, if it belongs to it, and tells so, and finished(parts) is the list of the
-stretches that it makes.
+entry() is what a state tells of it then, takes(rest, line) takes one more line, if
+it belongs to it, and tells so, and finished(parts) is the list of the stretches
+that it makes.
 """
 
 from plainmark.begins import MOST_INDENT, fence_of, heading_of, is_break, is_fence_end, words_of
@@ -27,7 +27,7 @@ class Leaf:
         self.texts = texts
         self.is_open = is_open
 
-    def is_given(self, rest, line):
+    def takes(self, rest, line):
         return False
 
     def take(self, text, line):
@@ -54,8 +54,8 @@ class Paragraph(Leaf):
         """The lines joined, without white at the end of all."""
         return "\n".join(self.texts).rstrip(WHITE)
 
-    def underline(self, level, line):
-        """Become a heading of this level."""
+    def become_heading(self, level, line):
+        """Become a heading of this level, with its underline in this line."""
         self.level = level
         self.last = line
 
@@ -115,7 +115,7 @@ class Fence(Leaf):
     def entry(self):
         return ("fence", self.sign, self.length, self.wide)
 
-    def is_given(self, rest, line):
+    def takes(self, rest, line):
         if is_fence_end(self.sign, self.length, rest):
             self.last = line
             self.is_open = False
@@ -136,7 +136,7 @@ class Indented(Leaf):
     def entry(self):
         return ("indented",)
 
-    def is_given(self, rest, line):
+    def takes(self, rest, line):
         if indent(rest) >= CODE_INDENT:
             self.take(told(taken(rest, CODE_INDENT)), line)
             return True
@@ -163,8 +163,9 @@ class Html(Leaf):
     def entry(self):
         return ("html", self.kind)
 
-    def is_given(self, rest, line):
+    def takes(self, rest, line):
         text = told(rest)
+        # Only kinds 6 and 7 end with a blank line, which is none of theirs.
         if is_blank(text) and html_ends(self.kind, text):
             return False
         self.take(text, line)

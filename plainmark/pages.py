@@ -72,7 +72,7 @@ def language(info):
 
 def list_page(block, rows):
     """The page of a list, given the pages in its items."""
-    _, _, start, is_tight, _ = block
+    start, is_tight = block[2], block[3]
     items = "".join([item_page(pages, is_tight) for pages in rows])
     if start is None:
         return "<ul>\n" + items + "</ul>\n"

@@ -32,8 +32,7 @@ def block_with_inlines(block, rows, known, seen):
     if word == "quote":
         return ("quote", rows[0])
     if word == "list":
-        _, sign, start, is_tight, _ = block
-        return ("list", sign, start, is_tight, tuple(rows))
+        return block[:4] + (tuple(rows),)
     if word in ("heading", "paragraph"):
         raw = block[-1]
         if raw not in seen:

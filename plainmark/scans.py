@@ -148,7 +148,7 @@ def take_line_feed(scan):
     """
     content, place = scan.content, scan.place
     word = "soft"
-    if content.endswith("  ", scan.plain, place):
+    if content[max(scan.plain, place - 2):place] == "  ":
         word = "hard"
     scan.put((word,), behind_all(WHITE, content, place + 1))
 
@@ -222,10 +222,11 @@ def found_behind(scan, bracket):
 
 
 def own_label(scan, bracket):
-    """A tuple (place behind, label's text) if a bracket and the "]" make a label, or None."""
+    """A tuple (place behind, label's text) if a bracket and the "]" make a label, or None.
+
+    As the text of a label has no brackets, none was noted behind this one then.
+    """
     content, end = scan.content, scan.place + 1
-    if scan.noted > bracket.number + 1:
-        return None
     label = label_at(content, bracket.place - 1)
     if label is None or label[0] != end:
         return None

@@ -31,7 +31,7 @@ class Reading:
         rest = self.go_on(whole(line))
         leaf = self.leaf()
         all_on = leaf is not None and self.kept == len(self.chain) - 1
-        if all_on and leaf.is_given(rest, self.line):
+        if all_on and leaf.takes(rest, self.line):
             if not leaf.is_open:
                 self.chain.pop()
         else:
@@ -66,7 +66,7 @@ class Reading:
         while not is_blank(rest[0]):
             behind = self.behind_new_quote(rest)
             if behind is None:
-                if self.has_begun_leaf(rest):
+                if self.begin_leaf(rest):
                     return
                 behind = self.behind_new_item(rest)
             if behind is None:
@@ -95,7 +95,7 @@ class Reading:
         text, column, _ = taken(rest, wide)
         behind = (text[length:], column + length, 0)
         blanks = indent(behind)
-        if is_blank(behind[0]) or not 1 <= blanks <= MOST_BEHIND_MARK:
+        if is_blank(behind[0]) or blanks > MOST_BEHIND_MARK:
             blanks = 1
         self.end()
         self.open_list(sign, value)
@@ -113,9 +113,9 @@ class Reading:
         self.put(listing)
         self.chain.append(listing)
 
-    def has_begun_leaf(self, rest):
-        """Whether a leaf that is no paragraph begins with a rest; then it has begun."""
-        if self.within and self.has_underlined(rest):
+    def begin_leaf(self, rest):
+        """Begin the leaf, but a paragraph, that fits a rest; tell whether there is one."""
+        if self.within and self.underline(rest):
             return True
         leaf = leaf_at(rest, self.line, self.within or self.lazy)
         if leaf is None:
@@ -126,13 +126,13 @@ class Reading:
             self.chain.append(leaf)
         return True
 
-    def has_underlined(self, rest):
-        """Whether a rest is the underline of the open paragraph; then it is a heading."""
+    def underline(self, rest):
+        """Underline the open paragraph if a rest does so; tell whether it does."""
         level = level_of_underline(words_of(rest))
         paragraph = self.chain[-1]
         if level == 0 or indent(rest) > MOST_INDENT or is_definitions_alone(paragraph.raw()):
             return False
-        paragraph.underline(level, self.line)
+        paragraph.become_heading(level, self.line)
         self.chain.pop()
         return True
 
@@ -157,12 +157,13 @@ class Reading:
         """Put a block that is no item into the innermost container."""
         if self.chain and isinstance(self.chain[-1], Listing):
             self.chain.pop()
-        if self.chain and isinstance(self.chain[-1], Item):
-            self.chain[-1].has_begun = True
-        if self.chain:
-            self.chain[-1].parts.append(block)
-        else:
+        if not self.chain:
             self.top.append(block)
+            return
+        container = self.chain[-1]
+        container.parts.append(block)
+        if isinstance(container, Item):
+            container.has_begun = True
 
     def open_container(self, container):
         """Go on in a container that begins with this line."""

@@ -111,6 +111,7 @@ class Targets(Told):
         self.told("[c\\](a)", t("[c](a)"))
         self.told("\\[c](a)", t("[c](a)"))
         self.told("[c]\n(a)", t("[c]"), SOFT, t("(a)"))
+        self.texts("[c]a)", "[c])", "[c]/(a)", "[c]{a)", "[c]")
 
     def test_in_a_line(self):
         self.told("x [c](a) y [d](b) z", t("x "), link("a", t("c")), t(" y "), link("b", t("d")), t(" z"))
@@ -275,6 +276,13 @@ class Labels(Told):
     def test_brackets_that_are_not_noted(self):
         self.told("[`[` a]", t("["), c("["), t(" a]"))
         self.told("[x](c[d) [a]", link("c[d", t("x")), t(" "), known("a", t("a")))
+
+    def test_brackets_that_end_no_label(self):
+        known = {"`": ("/u", None), "<b c='": ("/u", None), "a": ("/v", None)}
+        self.assertEqual(inlines("[`]`]", known), (t("["), c("]"), t("]")))
+        self.assertEqual(inlines("[`]`][]", known), (t("["), c("]"), t("][]")))
+        self.assertEqual(inlines("[<b c=']'>]", known), (t("["), raw("<b c=']'>"), t("]")))
+        self.assertEqual(inlines("[`]`][a]", known), (link("/v", c("]")),))
 
     def test_links_in_links(self):
         self.told("[[a] x](c)", t("["), known("a", t("a")), t(" x](c)"))

@@ -104,7 +104,7 @@ class Items(Told):
 
     def test_no_marks(self):
         for line in ("-a", "+a", "1.a", "1)a", "a. b", ". b", ") b", "1 . a", "1: a", "1", "-1. a", "+1. a", "*a", "=a", "#a",
-                     "a- b", "1.) a", "(1) a", "1,2. a", "x. a"):
+                     "a- b", "1.) a", "(1) a", "1,2. a", "x. a", "1- a", "12+ a", "3* a"):
             self.told(line, p(line))
 
     def test_numbers_of_one_to_ten_digits(self):

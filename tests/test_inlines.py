@@ -238,7 +238,8 @@ class Addresses(Told):
 
     def test_wrong_addresses(self):
         for words in ("@a", "a@", "a@b.", "a@.b", "a@b..c", "a@-b", "a@b-", "a@b.-c", "a@b-.c", "a b@c", "a@b c", "a@b_c", "a@b@c",
-                      "a@" + "b" * 64, "a@b." + "c" * 64, "a,b@c", "a(b@c", "a@b:c", "a\"@b", "a;@b", "a@b/", "a@b+"):
+                      "a@" + "b" * 64, "a@b." + "c" * 64, "a,b@c", "a(b@c", "a@b:c", "a\"@b", "a;@b", "a@b/", "a@b+", ",@b", "(a@b", "a@_b", "a@(b",
+                      "a@b._c"):
             self.assertEqual([one[0] for one in inlines(f"<{words}>")], ["text"], words)
         self.told("<a\\@b>", t("<a@b>"))
         self.told("<a@b<c>", t("<a@b"), raw("<c>"))

@@ -155,6 +155,9 @@ class OneBehindTheOther(unittest.TestCase):
         self.assertNotEqual(read("    a\n\n    b"), read("    a") + read("    b"))
         self.assertNotEqual(read("<!--\n\nb"), read("<!--") + read("b"))
         self.assertNotEqual(read("```\n\nb"), read("```") + read("b"))
+        texts = list(chance_texts(16, 300, PIECES + ("\t", "\t"), 10))
+        for text, behind in zip(texts, texts[1:]):
+            self.assertIs(type(read(text + "\n\n" + behind)), tuple)
 
 
 class BlankLinesAndBlanks(unittest.TestCase):
@@ -234,6 +237,11 @@ class Definitions(unittest.TestCase):
                 more = read(text + "\n\n[" + labels[-1] + "]: /other 'x'")
                 self.assertEqual(more, tree + (definition(labels[-1], "/other", "x"),), text)
         self.assertGreater(many, 100)
+
+    def test_behind_others_it_need_not_be(self):
+        self.assertNotEqual(read("[a]: /u\n\n```\n\n[a]: /v"), read("[a]: /u\n\n```") + (definition("a", "/v"),))
+        for text in chance_texts(15, 300, PIECES + ("\t", "\t")):
+            self.assertIs(type(read(text + "\n\n[a]: /other")), tuple)
 
 
 if __name__ == "__main__":
