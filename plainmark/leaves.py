@@ -147,7 +147,7 @@ class Indented(Leaf):
 
     def finished(self, parts):
         texts = list(self.texts)
-        while is_blank(texts[-1]):
+        while texts and is_blank(texts[-1]):
             texts.pop()
         block = ("code", joined_lines(texts), None)
         return [Stretch("code", self.first, self.first + len(texts) - 1, block, [])]

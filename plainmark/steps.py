@@ -8,6 +8,8 @@ from plainmark.stretches import stretches_of
 
 # So many blank columns behind a mark are taken; of more, one is.
 MOST_BEHIND_MARK = 4
+# Where a reading goes on with a state, its open blocks stand ahead of line 0.
+LINE_AHEAD = -1
 
 
 class Reading:
@@ -220,15 +222,15 @@ def opened(entry):
     """An open block of which a state tells this."""
     word = entry[0]
     if word == "quote":
-        return Quote(0)
+        return Quote(LINE_AHEAD)
     if word == "list":
-        return Listing(0, entry[1], None)
+        return Listing(LINE_AHEAD, entry[1], None)
     if word == "item":
-        return Item(0, entry[1], entry[2])
+        return Item(LINE_AHEAD, entry[1], entry[2])
     if word == "paragraph":
-        return Paragraph(0, entry[1].split("\n"))
+        return Paragraph(LINE_AHEAD, entry[1].split("\n"))
     if word == "fence":
-        return Fence(0, entry[1], entry[2], entry[3], "")
+        return Fence(LINE_AHEAD, entry[1], entry[2], entry[3], "")
     if word == "indented":
-        return Indented(0, [])
-    return Html(0, [], entry[1])
+        return Indented(LINE_AHEAD, [])
+    return Html(LINE_AHEAD, [], entry[1])

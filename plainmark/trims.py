@@ -3,24 +3,28 @@
 from plainmark.blocks import outline
 from plainmark.columns import lines_of
 from plainmark.definitions import definitions
+from plainmark.leaves import Indented, Leaf
 from plainmark.places import behind_all
 from plainmark.reading import with_inlines
-from plainmark.steps import Reading, reading_of, states_of
-from plainmark.stretches import blocks_of
+from plainmark.rows import folded, rows_in_block
+from plainmark.steps import Reading, opened, states_of
+from plainmark.stretches import blocks_of, spans_of, stretches_of
 
 
 class Trim:
     """A text from which backslashes are taken out.
 
-    All texts that are read as the same tree have the same definitions, known.
-    What a backslash may change ends where no block is open, with it and without
-    it. Of each one that has to stay, its place and the line of that end are
-    kept: only if a line ahead of the end changes, it is to be tried again.
+    All texts that are read as the same tree have the same definitions, known;
+    seen has the inlines of raw texts with them. Of each backslash that has to
+    stay, the place and the line are kept ahead of which that is certain: only
+    if a line ahead of it changes, the backslash is to be tried again.
     """
 
     def __init__(self, text):
-        self.known = definitions(outline(text))
+        blocks = outline(text)
+        self.known = definitions(blocks)
         self.seen = {}
+        self.tree = self.tree_of(blocks)
         self.stayed = []
         self.change(text)
 
@@ -30,11 +34,15 @@ class Trim:
         self.lines = lines_of(text)
         self.states = states_of(self.lines)
 
+    def tree_of(self, blocks):
+        """The tree of an outline, with the definitions that are known."""
+        return with_inlines(blocks, self.known, self.seen)
+
     def try_at(self, place):
         """Try to take out the backslash at a place; the place from which on to go on."""
         shorter = self.text[:place] + self.text[place + 1:]
         line = self.text.count("\n", 0, place)
-        end, is_same = self.compare(lines_of(shorter), line)
+        end, is_same = self.compare(shorter, line)
         if is_same:
             self.change(shorter)
             return self.first_touched(place, line)
@@ -42,27 +50,27 @@ class Trim:
         # Without another backslash of the same row it would be the same text.
         return behind_all("\\", self.text, place)
 
-    def compare(self, lines, line):
-        """A tuple (line, is the same tree read) for lines of which one is another.
+    def compare(self, shorter, line):
+        """A tuple (line, is the same tree read) for a text with another such line.
 
-        What is behind the first of these lines is the same for both.
+        Both texts are read on from that line until their states meet; from there
+        on the same is read. So it is certain then whether their trees are the
+        same, but where lists may still become loose in one of them or in both.
         """
-        begin = line
-        while self.states[begin] != ():
-            begin -= 1
-        reading = Reading([])
-        end = len(self.lines)
-        for number in range(begin, len(lines)):
-            reading.read_line(lines[number])
-            if number >= line and reading.entries() == () and self.states[number + 1] == ():
-                end = number + 1
-                break
-        old = reading_of(self.lines[begin:end])
-        return (end, self.tree_of(reading) == self.tree_of(old))
-
-    def tree_of(self, reading):
-        """The tree of what was read, with the definitions that are known."""
-        return with_inlines(blocks_of(reading.stretches()), self.known, self.seen)
+        lines = lines_of(shorter)
+        old, new = Stage(self.states[line]), Stage(self.states[line])
+        end = line
+        while end < len(self.lines) and (end == line or old.reading.entries() != new.reading.entries()):
+            old.read_lines(self.lines[end:end + 1])
+            new.read_lines(lines[end:end + 1])
+            end += 1
+        old_trees = [self.tree_of(blocks) for blocks in old.rows()]
+        new_trees = [self.tree_of(blocks) for blocks in new.rows()]
+        if old_trees == new_trees and old.places() == new.places():
+            return (end, True)
+        if [loosened(tree) for tree in old_trees] != [loosened(tree) for tree in new_trees]:
+            return (end, False)
+        return (len(self.lines), self.tree_of(outline(shorter)) == self.tree)
 
     def first_touched(self, place, line):
         """The first place of those that are to be tried again when a line has changed."""
@@ -74,6 +82,65 @@ class Trim:
         if touched:
             return touched[0][0]
         return place
+
+
+class Stage:
+    """What is read on from a state, whose open blocks have nothing in them at first."""
+
+    def __init__(self, entries):
+        self.nodes = [opened(entry) for entry in entries]
+        self.reading = Reading(self.nodes)
+
+    def read_lines(self, lines):
+        """Read more lines."""
+        for line in lines:
+            self.reading.read_line(line)
+
+    def made(self):
+        """The rows of stretches made in the document, and in each block that was open."""
+        rows = [self.reading.stretches()]
+        for node in self.nodes:
+            if isinstance(node, Leaf):
+                rows.append(node.finished([]))
+            else:
+                rows.append(stretches_of(node.parts))
+        return rows
+
+    def rows(self):
+        """The same as rows of blocks, items being those of a list."""
+        rows = []
+        for stretches in self.made():
+            blocks = blocks_of(stretches)
+            if stretches and stretches[0].word == "item":
+                blocks = (("list", "-", None, True, blocks),)
+            rows.append(blocks)
+        return rows
+
+    def places(self):
+        """What lines behind may ask for besides the state: where blocks stand, and blank lines."""
+        blank_lines = []
+        leaf = self.reading.leaf()
+        if isinstance(leaf, Indented):
+            blank_lines = list(leaf.texts)
+        return [[spans_of(row) for row in self.made()], [node.last for node in self.nodes], blank_lines]
+
+
+def loosened(blocks):
+    """Blocks with loose lists alone."""
+    return folded(blocks, rows_in_block, loosened_row)
+
+
+def loosened_row(row, inner):
+    """A row of blocks with loose lists alone, given the rows in each of them."""
+    made = []
+    for block, rows in zip(row, inner):
+        if block[0] == "list":
+            made.append(block[:3] + (False, tuple(rows)))
+        elif block[0] == "quote":
+            made.append(("quote", rows[0]))
+        else:
+            made.append(block)
+    return tuple(made)
 
 
 def without_backslashes(text):

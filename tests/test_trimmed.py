@@ -7,8 +7,9 @@ from fairness import fair_trees
 from plainmark.blocks import Reader
 from plainmark.errors import NoSource
 from plainmark.reading import read
+from plainmark.trims import Trim, loosened
 from plainmark.writing import trimmed, written
-from shapes import chance_texts, others
+from shapes import PIECES, bullets, chance_texts, code, html, loose, loose_numbers, numbers, others, quote, text_para
 
 BACKSLASH = "\\"
 
@@ -131,6 +132,14 @@ class Trimmed(unittest.TestCase):
                 text = "".join(chance.choice(pieces) for _ in range(chance.randint(0, 18)))
                 self.facts(text)
 
+    def test_texts_of_several_lines(self):
+        chance = random.Random(54)
+        lines = ["", "", "- a", "- \\- b", "  \\# c", "  d\\*", "> \\> e", "> f \\_g_", "\\```", "```", "    \\a", "    b", "\\1. x", "1\\. y",
+                 "* \\", "\\", "\\\\", "- \\", "  \\", "> \\", "\\===", "a\\", "<!-- \\-->", "\\<!--", "-->", "<div>\\", "[a\\]]: /u",
+                 "[a\\]]", "\\[b]", "[b]: /v\\!", "  > \\- q", "- - \\+ r", "      \\", "# h \\#", "***\\"]
+        for _ in range(1500):
+            self.facts("\n".join(chance.choice(lines) for _ in range(chance.randint(1, 9))) + chance.choice(("", "\n")))
+
     def facts(self, text):
         told = trimmed(text)
         self.assertEqual(told, word_by_word(text), repr(text))
@@ -148,6 +157,8 @@ class Trimmed(unittest.TestCase):
     def test_long_texts(self):
         many = "\\*a\\_b \\q\n\n"
         self.assertEqual(trimmed(many * 66), "*a_b \\q\n\n" * 66)
+        self.assertEqual(trimmed("- \\*a\\* b\\_c\n" * 200), "- *a\\* b_c\n" * 200)
+        self.assertEqual(trimmed("\\# a\n" * 200), "\\# a\n" * 200)
         self.assertEqual(trimmed("\\\\\n" * 200), "\\\\\n" * 199 + "\\\n")
         self.assertEqual(trimmed("\\" * 200), "\\" * 199)
 
@@ -159,6 +170,57 @@ class Trimmed(unittest.TestCase):
 
     def test_argument_by_name(self):
         self.assertEqual(trimmed(text="a \\* b"), "a * b")
+
+
+class Compared(unittest.TestCase):
+    """How two texts are compared of which one line is another one."""
+
+    def told(self, text, other, line, *wanted):
+        self.assertEqual(Trim(text).compare(other, line), wanted, (text, other))
+        self.assertEqual(read(text) == read(other), wanted[1])
+
+    def test_what_is_certain_soon(self):
+        self.told("a\n\nb\n\nc\n", "a\n\nd\n\nc\n", 2, 4, False)
+        self.told("a\n\nb\n\nc\n", "a\n\n b\n\nc\n", 2, 3, True)
+        self.told("# a\n# b\n# c\n", "# a\n# d\n# c\n", 1, 2, False)
+        self.told("# a\n# b\n# c\n", "# a\n# b #\n# c\n", 1, 2, True)
+        self.told("- a\n- b\n- c\n", "- a\n- d\n- c\n", 1, 3, False)
+        self.told("> ```\n> a\n> b\n", "> ```\n>a\n> b\n", 1, 2, True)
+        self.told("> ```\n> a\n> b\n", "> ```\n>  a\n> b\n", 1, 2, False)
+        self.told("a", "b", 0, 1, False)
+        self.told("a", "", 0, 1, False)
+        self.told("a\n\n", "\n\n", 0, 2, False)
+
+    def test_lists_that_become_loose_later(self):
+        tight = "- a\n- > b\n  >\n- c\n"
+        self.told(tight, "- a\n- > b\n\n- c\n", 2, 4, False)
+        self.told(tight + "- d\n", "- a\n- > b\n\n- c\n- d\n", 2, 5, False)
+        self.told(tight + "\n- d\n", "- a\n- > b\n\n- c\n\n- d\n", 2, 6, True)
+        self.told("> " + tight.replace("\n", "\n> ") + "\n> - d", "> - a\n> - > b\n>\n> - c\n>\n> - d", 2, 6, True)
+
+    def test_blank_lines_that_may_come_to_count(self):
+        self.told("    a\n      \n# b\n", "    a\n\n# b\n", 1, 3, True)
+        self.told("    a\n      \n    b\n", "    a\n\n    b\n", 1, 3, False)
+        self.told("    a\n    \n    b\n", "    a\n\n    b\n", 1, 2, True)
+
+    def test_over_many_texts(self):
+        chance = random.Random(55)
+        for text in chance_texts(56, 2500):
+            lines = text.split("\n")
+            line = chance.randint(0, len(lines) - 1)
+            other = lines[:line] + ["".join(chance.choice(PIECES) for _ in range(3)).replace("\n", "")] + lines[line + 1:]
+            if line < len(text.rstrip("\n").split("\n")) - 1:
+                other = "\n".join(other)
+                self.assertEqual(Trim(text).compare(other, line)[1], self.same(text, other), (text, other))
+
+    def same(self, text, other):
+        return read(text) == read(other)
+
+    def test_loosened(self):
+        a, b = text_para("a"), text_para("b")
+        tree = (a, bullets((a, quote(numbers(7, (b,), ()), a)), ()), loose((b,), (bullets((a,)),)), quote(), code("a\n"), html("<b>\n"))
+        self.assertEqual(loosened(tree), (a, loose((a, quote(loose_numbers(7, (b,), ()), a)), ()), loose((b,), (loose((a,)),)), quote(),
+                                          code("a\n"), html("<b>\n")))
 
 
 if __name__ == "__main__":
